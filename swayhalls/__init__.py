@@ -1,0 +1,1 @@
+"""Swayhalls: persons who lean by what they remember of one another."""
