@@ -71,12 +71,21 @@ class Hall:
         return f"Hall({len(self.string_rows)} persons, {len(self.weights)} beats)"
 
 
+def is_person(hall, thing):
+    """Whether it's the number of one of the hall's persons."""
+    return is_number(thing) and 0 <= thing < len(hall)
+
+
+def is_posture(hall, person, thing):
+    """Whether it's a posture of that person."""
+    return is_number(thing) and 0 <= thing <= hall.tops()[person]
+
+
 def is_standing(hall, thing):
     """Whether it's a tuple of a posture of each person."""
-    tops = hall.tops()
-    if not isinstance(thing, tuple) or len(thing) != len(tops):
+    if not isinstance(thing, tuple) or len(thing) != len(hall):
         return False
-    return all([is_number(one) and 0 <= one <= top for one, top in zip(thing, tops)])
+    return all([is_posture(hall, person, one) for person, one in enumerate(thing)])
 
 
 def is_past(hall, thing):

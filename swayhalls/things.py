@@ -20,3 +20,8 @@ def are_rows(thing):
 def does_rise(numbers):
     """Whether each is greater than the one ahead of it."""
     return all([low < high for low, high in zip(numbers, numbers[1:])])
+
+
+def is_pair(thing):
+    """Whether it's a tuple of two numbers."""
+    return isinstance(thing, tuple) and len(thing) == 2 and are_numbers(thing)

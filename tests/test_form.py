@@ -104,6 +104,54 @@ class Code(unittest.TestCase):
             if isinstance(node, ast.arg):
                 self.assertFalse(hasattr(builtins, name), at)
 
+    def test_locals_have_no_name_of_an_import_or_a_builtin(self):
+        for path, tree in trees():
+            imports = [node for node in tree.body if isinstance(node, ast.ImportFrom)]
+            taken = {one.asname or one.name for node in imports for one in node.names}
+            taken |= {node.name for node in tree.body if isinstance(node, ast.ClassDef)}
+            for node in ast.walk(tree):
+                name = node.arg if isinstance(node, ast.arg) else getattr(node, "id", None)
+                if isinstance(node, ast.arg) or isinstance(getattr(node, "ctx", None), ast.Store):
+                    self.assertNotIn(name, taken, f"{path.name}:{node.lineno}")
+                    self.assertFalse(name and hasattr(builtins, name), f"{path.name}:{node.lineno}")
+
+    def test_no_two_files_import_from_each_other(self):
+        ahead = {path.stem: {node.module.split(".")[1] for node in tree.body if isinstance(node, ast.ImportFrom)}
+                 for path, tree in trees()}
+        while ahead:
+            free = {name for name, needs in ahead.items() if not needs & set(ahead)}
+            self.assertTrue(free, ahead)
+            ahead = {name: needs for name, needs in ahead.items() if name not in free}
+
+    def test_powers_are_literal(self):
+        for at, node in nodes(ast.BinOp):
+            if isinstance(node.op, ast.Pow):
+                self.assertIsInstance(node.right, ast.Constant, at)
+                self.assertIn(node.right.value, range(65), at)
+
+    def test_is_stands_beside_none_true_and_false_alone(self):
+        for at, node in nodes(ast.Compare):
+            for sign, right in zip(node.ops, node.comparators):
+                if isinstance(sign, (ast.Is, ast.IsNot)):
+                    self.assertTrue(isinstance(right, ast.Constant) and right.value in (None, True, False), at)
+
+    def test_len_returns_a_len(self):
+        for at, node in nodes(ast.FunctionDef):
+            if node.name == "__len__":
+                for one in ast.walk(node):
+                    if isinstance(one, ast.Return):
+                        self.assertEqual(ast.unparse(one.value)[:4], "len(", at)
+
+    def test_sets_are_kept_in_locals_alone(self):
+        for at, node in nodes(ast.Assign):
+            if isinstance(node.value, ast.Call) and getattr(node.value.func, "id", None) == "set":
+                self.assertEqual([type(target) for target in node.targets], [ast.Name], at)
+
+    def test_no_try_around_errors_of_pythons_own(self):
+        for at, node in nodes(ast.ExceptHandler):
+            self.assertIsNotNone(node.type, at)
+            self.assertNotIn(getattr(node.type, "id", None), ("Exception", "TypeError", "BaseException"), at)
+
     def test_no_name_is_a_method_and_a_field(self):
         methods = {one.name for _, node in nodes(ast.ClassDef) for one in node.body if isinstance(one, ast.FunctionDef)}
         fields = {node.attr for _, node in nodes(ast.Attribute) if isinstance(node.ctx, ast.Store)}

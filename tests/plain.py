@@ -1,0 +1,52 @@
+"""The document's words once more, written as plainly as they can be, for the tests to compare with."""
+
+from itertools import product
+
+
+def held_in(standing, held):
+    return tuple(dict(held).get(person, posture) for person, posture in enumerate(standing))
+
+
+def pull_of(hall, past, person):
+    memory, strings, total = hall.memory(), hall.strings(), 0
+    for ago in range(1, len(memory) + 1):
+        for other in range(len(strings)):
+            total += memory[ago - 1] * strings[person][other] * past[len(past) - ago][other]
+    return total
+
+
+def next_of(hall, past, held=()):
+    """The next standing, the past being taken as it's told."""
+    leans = []
+    for person, steps in enumerate(hall.steps()):
+        pull, posture = pull_of(hall, past, person), 0
+        while posture < len(steps) and steps[posture] <= pull:
+            posture += 1
+        leans.append(posture)
+    return held_in(leans, held)
+
+
+def history_of(hall, past, many, held=()):
+    rows = [held_in(standing, held) for standing in past]
+    for _ in range(many):
+        rows.append(next_of(hall, rows[-len(past):], held))
+    return rows
+
+
+def round_in(rows, beats):
+    """The least (b, l), by looking at all pairs, in rows long enough to have it; None where they aren't."""
+    for length in range(1, len(rows)):
+        for begin in range(len(rows) - length - beats + 1):
+            if rows[begin:begin + beats] == rows[begin + length:begin + length + beats]:
+                return begin, length
+    return None
+
+
+def pasts_of(hall):
+    standings = list(product(*[range(top + 1) for top in hall.tops()]))
+    return [list(past) for past in product(standings, repeat=len(hall.memory()))]
+
+
+def turned_round(cycle):
+    """The same cycle, told from its least place on."""
+    return min(tuple(cycle[at:] + cycle[:at]) for at in range(len(cycle)))
