@@ -90,9 +90,7 @@ def memory_in(row):
     """The weights that a text's last row tells; None where it's no such row."""
     words = row.split(" ")
     weights = numbers_in(words[1:])
-    if words[0] != "memory" or weights is None or not is_memory(weights):
-        return None
-    return weights
+    return weights if words[0] == "memory" and is_memory(weights) else None
 
 
 def persons_in(rows, many):
