@@ -40,7 +40,6 @@ def shows_round(hall, past, thing, *, held=()):
     begin, length = thing
     if not 0 <= begin <= LAST_BEGIN or not 1 <= length <= LONGEST_ROUND:
         return False
-    standings = history(hall, past, begin + length, held=held)
-    beats = len(hall.memory())
-    again = begin + length
-    return standings[begin:begin + beats] == standings[again:again + beats]
+    # it goes round so just from the least begin on and in what the least length divides, so both are found in time
+    found = round_of(hall, past, held=held, most=begin + length)
+    return found is not None and found[0] <= begin and length % found[1] == 0
