@@ -4,12 +4,28 @@ from swayhalls.errors import BadPosture, NoPerson, NotHeld
 from swayhalls.halls import is_person, is_posture
 
 
-def pulls(hall, past):
-    """For each person its pull by what is remembered."""
+def weighed(hall, past):
+    """For each person its postures of the past together, each by the weight of its beat."""
     # a shorter past pulls by the weights of its beats alone: the sums of the worth need that
     ahead = past[::-1]
-    weighed = [sum([weight * posture for weight, posture in zip(hall.memory(), postures)]) for postures in zip(*ahead)]
-    return tuple([sum([string * much for string, much in zip(row, weighed)]) for row in hall.strings()])
+    return [sum([weight * posture for weight, posture in zip(hall.memory(), postures)]) for postures in zip(*ahead)]
+
+
+def pulled_by(row, much):
+    """The pull by these strings, where each one pulls by so much."""
+    return sum([string * one for string, one in zip(row, much)])
+
+
+def pulls(hall, past):
+    """For each person its pull by what is remembered."""
+    much = weighed(hall, past)
+    return tuple([pulled_by(row, much) for row in hall.strings()])
+
+
+def leant_to(hall, past, person):
+    """The posture to which that person alone leans by what is remembered."""
+    pull = pulled_by(hall.strings()[person], weighed(hall, past))
+    return reached(hall.steps()[person], pull)
 
 
 def reached(steps, pull):

@@ -2,6 +2,8 @@
 
 from itertools import product
 
+from swayhalls.scales import scales_of
+
 
 def held_in(standing, held):
     return tuple(dict(held).get(person, posture) for person, posture in enumerate(standing))
@@ -43,10 +45,37 @@ def round_in(rows, beats):
 
 
 def pasts_of(hall):
-    standings = list(product(*[range(top + 1) for top in hall.tops()]))
-    return [list(past) for past in product(standings, repeat=len(hall.memory()))]
+    return [list(past) for past in product(standings_of(hall), repeat=len(hall.memory()))]
 
 
 def turned_round(cycle):
     """The same cycle, told from its least place on."""
     return min(tuple(cycle[at:] + cycle[:at]) for at in range(len(cycle)))
+
+
+def standings_of(hall):
+    return list(product(*[range(top + 1) for top in hall.tops()]))
+
+
+def scales_told(hall):
+    return scales_of(hall) if scales_of(hall) is not None else scales_of(hall, turned=True)
+
+
+def weight_sum(hall, person, posture):
+    """The weights of that person's first steps together, as many as its posture."""
+    middle = sum(hall.memory()) * sum(s * t for s, t in zip(hall.strings()[person], hall.tops()))
+    return sum(2 * step - 1 - middle for step in hall.steps()[person][:posture])
+
+
+def worth_by_words(hall, window):
+    scales, strings, tops, memory = scales_told(hall), hall.strings(), hall.tops(), hall.memory()
+    persons, total = range(len(hall)), 0
+    for standing in window:
+        for i in persons:
+            total += scales[i] * 2 * weight_sum(hall, i, standing[i])
+    for late, early in product(range(len(window)), repeat=2):
+        if early < late:
+            for i, j in product(persons, repeat=2):
+                own, other = 2 * window[late][i] - tops[i], 2 * window[early][j] - tops[j]
+                total -= memory[late - early - 1] * scales[i] * strings[i][j] * own * other
+    return total

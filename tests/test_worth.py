@@ -10,7 +10,7 @@ from swayhalls.kinds import middles, mirror, word_of
 from swayhalls.scales import scales_of
 from swayhalls.worth import bound_of, gains, range_of, shows_falls, unlike_beats, worth_of, worths
 from tests.draws import draw_even, draw_held, draw_hall, draw_mirrored, draw_past, draw_standing
-from tests.plain import history_of, next_of, pasts_of, pull_of
+from tests.plain import history_of, next_of, pasts_of, pull_of, scales_told, weight_sum, worth_by_words
 from tests.samples import THINGS, put
 
 NEITHER = Hall([[0, 1], [0, 0]], [[1], [1]])
@@ -20,30 +20,6 @@ NEITHER_BY_STEPS = Hall([[0, 1], [-1, 0]], [[1], [1]])
 MIRRORED = Hall([[0, 1], [-1, 0]], [[1], [0]])
 # by scales 3 and 2; its middles are 4 and 3
 PAIR = Hall([[0, 2], [3, 0]], [[2], [1, 4]])
-
-
-def scales_told(hall):
-    return scales_of(hall) if scales_of(hall) is not None else scales_of(hall, turned=True)
-
-
-def weight_sum(hall, person, posture):
-    """The weights of that person's first steps together, as many as its posture."""
-    middle = sum(hall.memory()) * sum(s * t for s, t in zip(hall.strings()[person], hall.tops()))
-    return sum(2 * step - 1 - middle for step in hall.steps()[person][:posture])
-
-
-def worth_by_words(hall, window):
-    scales, strings, tops, memory = scales_told(hall), hall.strings(), hall.tops(), hall.memory()
-    persons, total = range(len(hall)), 0
-    for standing in window:
-        for i in persons:
-            total += scales[i] * 2 * weight_sum(hall, i, standing[i])
-    for late, early in product(range(len(window)), repeat=2):
-        if early < late:
-            for i, j in product(persons, repeat=2):
-                own, other = 2 * window[late][i] - tops[i], 2 * window[early][j] - tops[j]
-                total -= memory[late - early - 1] * scales[i] * strings[i][j] * own * other
-    return total
 
 
 def gains_by_words(hall, window, standing):
