@@ -112,6 +112,14 @@ class Sway:
         other.gone = self.gone
         return other
 
+    def moved_to(self, hall):
+        """One of its own that goes on in another hall of as many persons; a posture above a top there is that top."""
+        other, tops = self.twin(), hall.tops()
+        other.home = hall
+        other.standings = [tuple([min(one, top) for one, top in zip(then, tops)]) for then in self.standings]
+        other.grips = {person: min(self.grips[person], tops[person]) for person in self.grips}
+        return other
+
     def __eq__(self, other):
         return (isinstance(other, Sway) and self.home == other.home
                 and self.standings == other.standings and self.grips == other.grips)

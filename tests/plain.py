@@ -79,3 +79,12 @@ def worth_by_words(hall, window):
                 own, other = 2 * window[late][i] - tops[i], 2 * window[early][j] - tops[j]
                 total -= memory[late - early - 1] * scales[i] * strings[i][j] * own * other
     return total
+
+
+def down(hall, person, standing):
+    """The standing with that person's posture told from its top down."""
+    return tuple(hall.tops()[person] - posture if one == person else posture for one, posture in enumerate(standing))
+
+
+def without(standing, person):
+    return standing[:person] + standing[person + 1:]

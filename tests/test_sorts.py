@@ -127,6 +127,14 @@ class Are(unittest.TestCase):
         for thing in ([0], [(0,)], ([0],), [[False]], [[0, 0]], [[0], [0]], [[1]], [[-1]], [["0"]], [[[0]]], "0", 0):
             self.check(False, Hall([[1]], [[1]]), thing)
 
+    def test_lists_that_do_not_rise_behind_their_first(self):
+        hall = Hall([[0] * 4] * 4, [[1]] * 4)
+        self.check(True, hall, [[0, 1, 2, 3]])
+        self.check(True, hall, [[0, 3], [1, 2]])
+        for lists in ([[0, 2, 1, 3]], [[0, 1, 3, 2]], [[0], [1, 3, 2]], [[0, 3, 2], [1]], [[3, 2, 1, 0]], [[0, 1, 1, 2, 3]]):
+            self.check(False, hall, lists)
+            self.assertRaises(NotSorts, lesser, hall, lists)
+
     def test_against_words(self):
         draw, found = Random(150), 0
         for _ in range(300):
